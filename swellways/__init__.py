@@ -1,0 +1,1 @@
+"""Swellways: senders on shared ways."""

@@ -1,0 +1,96 @@
+"""Rules, plans and things heard, drawn from a seed."""
+
+WORDS = ("still", "step", "swell", "heed", "calm")
+NAMES = ("a", "ab", "b", "bob", "c", "dd", "eve", "fff", "zz")
+
+
+def fraction(source, least, most):
+    """A fraction from least to most, which are whole numbers."""
+    from fractions import Fraction
+    bottom = source.choice([1, 1, 2, 3, 4, 7, 12, 60])
+    number = Fraction(source.randint(least * bottom, most * bottom), bottom)
+    return (number.numerator, number.denominator)
+
+
+def at_most(source, bound):
+    """A fraction above 0 and at most the bound, a fraction."""
+    from fractions import Fraction
+    number = Fraction(*bound) * Fraction(source.randint(1, 6), 6)
+    return (number.numerator, number.denominator)
+
+
+def at_least_one(source, bound):
+    """A fraction from 1 to the bound, a fraction from 1 on."""
+    from fractions import Fraction
+    number = 1 + (Fraction(*bound) - 1) * Fraction(source.randint(0, 6), 6)
+    return (number.numerator, number.denominator)
+
+
+def below_one(source):
+    bottom = source.choice([2, 3, 5, 10, 60])
+    return fraction_of(source.randint(1, bottom - 1), bottom)
+
+
+def fraction_of(top, bottom):
+    from fractions import Fraction
+    number = Fraction(top, bottom)
+    return (number.numerator, number.denominator)
+
+
+def rule(source, word=None, most=60):
+    """A rule, its top at most most."""
+    word = word or source.choice(WORDS)
+    top = fraction(source, 1, most)
+    first = at_least_one(source, top)
+    if word == "still":
+        return (word, first)
+    up = at_most(source, source.choice([(1, 2), (1, 1), (3, 1), (60, 1)]))
+    if word == "step":
+        return (word, first, up, below_one(source), top)
+    if word == "swell":
+        up = fraction_of(60 + source.randint(1, 90), 60)
+        return (word, first, up, below_one(source), top)
+    if word == "heed":
+        return (word, first, up, at_most(source, (1, 1)), top)
+    low = source.randint(0, 4)
+    return (word, first, up, low, low + source.randint(0, 4), top)
+
+
+def gentler_rule(source, rule):
+    """A rule that is gentler than the one handed in."""
+    word = rule[0]
+    if word == "still":
+        return (word, at_least_one(source, rule[1]))
+    top = at_least_one(source, rule[-1])
+    low = rule[1] if rule[1][0] * top[1] < top[0] * rule[1][1] else top
+    first = at_least_one(source, low)
+    if word == "step":
+        return (word, first, at_most(source, rule[2]), at_most(source, rule[3]), top)
+    if word == "swell":
+        return (word, first, above_one(source, rule[2]), at_most(source, rule[3]), top)
+    if word == "heed":
+        return (word, first, at_most(source, rule[2]), rule[3], top)
+    return (word, first) + rule[2:5] + (top,)
+
+
+def above_one(source, bound):
+    """A fraction above 1 and at most the bound, which is above 1."""
+    from fractions import Fraction
+    number = 1 + (Fraction(*bound) - 1) * Fraction(source.randint(1, 6), 6)
+    return (number.numerator, number.denominator)
+
+
+def grid(source):
+    return source.choice([1, 1, 2, 3, 5, 7, 12, 59, 60, source.randint(1, 60)])
+
+
+def heard(source):
+    good = source.choice([0, 0, 1, 2, 9])
+    marked = source.choice([0, 0, 0, 1, 3])
+    lost = source.choice([0, 0, 0, 1, 5])
+    wait = source.randint(0, 9) if good + marked else 0
+    return (good, marked, lost, wait)
+
+
+def row(source):
+    return [heard(source) for turn in range(source.randint(0, 12))]
