@@ -1,13 +1,7 @@
 """Rules beside one another: how far windows come apart, and which rule is the gentler one."""
 
-from swellways.fractions import ceil_of
-from swellways.fractions import floor_of
-from swellways.fractions import less
-from swellways.fractions import times
-from swellways.rules import factor_of
-from swellways.rules import is_idle
-from swellways.rules import share_behind
-from swellways.rules import top_of
+from swellways.fractions import ceil_of, floor_of, less, times
+from swellways.rules import factor_of, is_idle, share_behind, top_of
 
 # The places, in a rule of each word, of what may be less in the gentler one; all else is the same.
 MAY_BE_LESS = {"still": (1,), "step": (1, 2, 3, 4), "swell": (1, 2, 3, 4), "heed": (1, 2, 4), "calm": (1, 5)}

@@ -1,14 +1,6 @@
 """Rules: what they are, and how a sender's window and share go by them."""
 
-from swellways.fractions import cut_by
-from swellways.fractions import floor_of
-from swellways.fractions import is_fraction
-from swellways.fractions import is_whole_within
-from swellways.fractions import less
-from swellways.fractions import minus
-from swellways.fractions import part
-from swellways.fractions import plus
-from swellways.fractions import times
+from swellways.fractions import cut_by, floor_of, is_fraction, is_whole_within, less, minus, part, plus, times
 
 NOUGHT = (0, 1)
 HALF = (1, 2)

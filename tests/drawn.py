@@ -1,12 +1,13 @@
 """Rules, plans and things heard, drawn from a seed."""
 
+from fractions import Fraction
+
 WORDS = ("still", "step", "swell", "heed", "calm")
 NAMES = ("a", "ab", "b", "bob", "c", "dd", "eve", "fff", "zz")
 
 
 def fraction(source, least, most):
     """A fraction from least to most, which are whole numbers."""
-    from fractions import Fraction
     bottom = source.choice([1, 1, 2, 3, 4, 7, 12, 60])
     number = Fraction(source.randint(least * bottom, most * bottom), bottom)
     return (number.numerator, number.denominator)
@@ -14,14 +15,12 @@ def fraction(source, least, most):
 
 def at_most(source, bound):
     """A fraction above 0 and at most the bound, a fraction."""
-    from fractions import Fraction
     number = Fraction(*bound) * Fraction(source.randint(1, 6), 6)
     return (number.numerator, number.denominator)
 
 
 def at_least_one(source, bound):
     """A fraction from 1 to the bound, a fraction from 1 on."""
-    from fractions import Fraction
     number = 1 + (Fraction(*bound) - 1) * Fraction(source.randint(0, 6), 6)
     return (number.numerator, number.denominator)
 
@@ -32,7 +31,6 @@ def below_one(source):
 
 
 def fraction_of(top, bottom):
-    from fractions import Fraction
     number = Fraction(top, bottom)
     return (number.numerator, number.denominator)
 
@@ -75,7 +73,6 @@ def gentler_rule(source, rule):
 
 def above_one(source, bound):
     """A fraction above 1 and at most the bound, which is above 1."""
-    from fractions import Fraction
     number = 1 + (Fraction(*bound) - 1) * Fraction(source.randint(1, 6), 6)
     return (number.numerator, number.denominator)
 
@@ -94,3 +91,33 @@ def heard(source):
 
 def row(source):
     return [heard(source) for turn in range(source.randint(0, 12))]
+
+
+def way(source, name):
+    """A way, rather a narrow one, so that letters wait and are lost."""
+    pace = source.choice([1, 1, 2, 3, source.randint(1, 20)])
+    room = source.choice([1, 2, 4, 9, source.randint(1, 60)])
+    mark = source.choice([None, None, 0, 1, room // 2, room, source.randint(0, 60)])
+    return (name, pace, room, mark, source.choice(["line", "turns"]))
+
+
+def sender(source, name, ways):
+    road = [one for one in ways if source.random() < 0.6] or [source.choice(ways)]
+    begin = source.choice([0, 0, 0, 1, source.randint(0, 20)])
+    many = source.choice([None, None, None, 0, 1, source.randint(0, 60)])
+    return (name, tuple(road), source.randint(1, source.choice([1, 3, 8])), begin, many,
+            rule(source, most=source.choice([2, 6, 20])))
+
+
+def plan(source):
+    """A plan of one to six ways and none to eight senders."""
+    ways = source.sample(NAMES, source.choice([1, 1, 2, 3, source.randint(1, 6)]))
+    names = sorted(source.sample(NAMES, source.choice([1, 2, 2, 3, source.randint(0, 8)])))
+    return (grid(source), tuple([way(source, name) for name in ways]),
+            tuple([sender(source, name, ways) for name in names]))
+
+
+def letters(source, names, many):
+    """So many letters of these senders, no two of one sender with one number."""
+    return tuple([(source.choice(names), number, source.randint(0, 9), source.randint(0, 3), source.randint(0, 1))
+                  for number in range(many)])

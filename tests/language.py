@@ -246,19 +246,16 @@ def looked(package, texts):
     """The faults of a package, texts being a dict of file names to their texts."""
     faults = []
     imports = {}
-    tops = {}
     for name, text in texts.items():
         looker = Looker(package, name, text)
         faults += looker.look()
-        tops[name] = looker.tops
-        drawn = [node for node in looker.tree.body if isinstance(node, ast.ImportFrom)]
-        imports[name] = [node.module[len(package) + 1:] + ".py" for node in drawn if node.module]
-        for node in drawn:
-            imported = [alias.name for alias in node.names]
-            looker_names = (node.module or "")[len(package) + 1:] + ".py"
-            if looker_names in texts:
-                defined = ast.parse(texts[looker_names])
-                faults += [("L16", name, node.lineno, one) for one in imported if one not in top_names(defined)]
+        imports[name] = []
+        for node in looker.tree.body:
+            if isinstance(node, ast.ImportFrom):
+                source = (node.module or "")[len(package) + 1:] + ".py"
+                imports[name].append(source)
+                known = top_names(ast.parse(texts.get(source, "")))
+                faults += [("L16", name, node.lineno, one.name) for one in node.names if one.name not in known]
     if draws_in_a_ring(imports):
         faults.append(("L16", "", 0, "files draw from one another"))
     return faults

@@ -53,3 +53,125 @@ def heard_by(rule, grid, window, share, heard):
         return window, share
     window, share, by = wanted(rule, grid, window, share, heard)
     return cut(min(max(window, 1), top_of(rule)), grid), share
+
+
+class PlainRun:
+    """Point 13 told once more, with letters that are dicts and wander from list to list."""
+
+    def __init__(self, plan):
+        self.grid, ways, senders = plan
+        self.ways = [dict(zip(("name", "pace", "room", "mark", "sort"), way), coming=[], standing=[], last="")
+                     for way in ways]
+        self.senders = {}
+        for name, road, beat, begin, many, rule in senders:
+            self.senders[name] = dict(
+                name=name, road=road, beat=beat, rule=rule, due=begin, left=many, window=cut(of(rule[1]), self.grid),
+                share=Fraction(0), next=0, again=[], lost=[], good=0, marked=0, wait=0)
+        self.totals = {name: {"sent": 0, "taken": 0, "lost": 0, "marked": 0} for name in self.senders}
+
+    def letters(self):
+        return [letter for way in self.ways for letter in way["coming"] + way["standing"]]
+
+    def beat(self, sender):
+        """The letters that a sender sends at its beat."""
+        heard = (sender["good"], sender["marked"], len(sender["lost"]), sender["wait"])
+        sender["window"], sender["share"] = heard_by(
+            sender["rule"], self.grid, sender["window"], sender["share"], heard)
+        sender["again"] = sorted(sender["again"] + sender["lost"])
+        sender.update(lost=[], good=0, marked=0, wait=0)
+        own = len([letter for letter in self.letters() if letter["name"] == sender["name"]])
+        sent = []
+        while own + len(sent) < floor(sender["window"]):
+            if sender["again"]:
+                number = sender["again"].pop(0)
+            elif sender["left"] is None or sender["left"] > 0:
+                number = sender["next"]
+                sender["next"] += 1
+                if sender["left"] is not None:
+                    sender["left"] -= 1
+            else:
+                break
+            sent.append({"name": sender["name"], "number": number, "age": 0, "hop": 0, "mark": 0})
+        return sent
+
+    def step(self):
+        """Goes on one round; told are its events."""
+        rows = [self.beat(sender) if sender["due"] == 0 else [] for sender in self.senders.values()]
+        sent = [row[place] for place in range(61) for row in rows if place < len(row)]
+        events = []
+        for letter in sent:
+            self.tell(events, "sent", letter, self.senders[letter["name"]]["road"][0])
+        gone = []
+        for way in self.ways:
+            came, way["coming"] = way["coming"], []
+            for letter in came + [one for one in sent if self.senders[one["name"]]["road"][0] == way["name"]]:
+                self.come_in(events, way, letter)
+            for turn in range(way["pace"]):
+                if way["standing"]:
+                    self.go_out(events, gone, way)
+        for letter, name in gone:
+            [way for way in self.ways if way["name"] == name][0]["coming"].append(letter)
+        for letter in self.letters():
+            letter["age"] += 1
+        for sender in self.senders.values():
+            if sender["due"] is not None:
+                sender["due"] = (sender["beat"] if sender["due"] == 0 else sender["due"]) - 1
+        return events
+
+    def tell(self, events, word, letter, way):
+        events.append((word, letter["name"], letter["number"], way))
+        if word in ("sent", "taken", "lost"):
+            self.totals[letter["name"]][word] += 1
+
+    def come_in(self, events, way, letter):
+        if len(way["standing"]) >= way["room"]:
+            self.tell(events, "lost", letter, way["name"])
+            sender = self.senders[letter["name"]]
+            sender["lost"] = sorted(sender["lost"] + [letter["number"]])
+            return
+        if way["mark"] is not None and len(way["standing"]) >= way["mark"]:
+            letter["mark"] = 1
+        way["standing"].append(letter)
+        self.tell(events, "in", letter, way["name"])
+
+    def picked(self, way):
+        """The letter that a way lets out next."""
+        if way["sort"] == "line":
+            return way["standing"][0]
+        names = sorted(self.senders)
+        start = names.index(way["last"]) + 1 if way["last"] else 0
+        for step in range(len(names)):
+            for letter in way["standing"]:
+                if letter["name"] == names[(start + step) % len(names)]:
+                    way["last"] = letter["name"]
+                    return letter
+
+    def go_out(self, events, gone, way):
+        letter = self.picked(way)
+        way["standing"] = [one for one in way["standing"] if one is not letter]
+        sender = self.senders[letter["name"]]
+        if way["name"] != sender["road"][-1]:
+            self.tell(events, "out", letter, way["name"])
+            letter["hop"] += 1
+            gone.append((letter, sender["road"][letter["hop"]]))
+            return
+        self.tell(events, "taken", letter, way["name"])
+        sender["wait"] = max(sender["wait"], letter["age"] - letter["hop"])
+        sender["marked" if letter["mark"] else "good"] += 1
+        self.totals[letter["name"]]["marked"] += letter["mark"]
+
+    def state(self):
+        """The state as the document writes it."""
+        def written(letters):
+            return tuple((one["name"], one["number"], one["age"], one["hop"], one["mark"]) for one in letters)
+
+        ways = tuple((written(way["coming"]), written(way["standing"]), way["last"]) for way in self.ways)
+        senders = tuple(
+            (one["name"], one["due"], pair_of(one["window"]), pair_of(one["share"]), one["next"], one["left"],
+             tuple(one["again"]), tuple(one["lost"]), one["good"], one["marked"], one["wait"])
+            for one in self.senders.values())
+        return (ways, senders)
+
+    def counted(self):
+        return tuple((name, row["sent"], row["taken"], row["lost"], row["marked"])
+                     for name, row in self.totals.items())
