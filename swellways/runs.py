@@ -36,12 +36,20 @@ def totals_after(ahead, before, told):
     return tuple(rows)
 
 
+def counted_first(plan):
+    """A pair: state and totals of a plan at first."""
+    return (begun(plan), tuple([(sender[NAME], 0, 0, 0, 0) for sender in plan[SENDERS]]))
+
+
+def counted_on(plan, counted):
+    """A pair: state and totals one round on, counted being those ahead of it."""
+    told = stepped(plan, counted[0])
+    return (told[0], totals_after(counted[1], counted[0], told))
+
+
 def totals(plan, many):
     """For each sender (name, sent, taken, lost, marked), as they are behind so many rounds."""
-    state = begun(plan)
-    rows = tuple([(sender[NAME], 0, 0, 0, 0) for sender in plan[SENDERS]])
+    counted = counted_first(plan)
     for turn in range(many):
-        told = stepped(plan, state)
-        rows = totals_after(rows, state, told)
-        state = told[0]
-    return rows
+        counted = counted_on(plan, counted)
+    return counted[1]

@@ -47,11 +47,35 @@ def wrong_for(part):
     return wrongs
 
 
-def spoiled(thing, path=()):
-    """Pairs (path, spoiled thing): in it the part at the path, of whatever depth, is replaced by a wrong one."""
-    told = [(path, wrong) for wrong in wrong_for(thing)]
+def others_for(part):
+    """What is of the kind of a part, but not the same."""
+    if isinstance(part, int):
+        return [part + 1, part - 1, -part - 7]
+    if isinstance(part, str):
+        return ["zz", part + "a"]
+    if part is None:
+        return [0]
+    others = [part + part[-1:], part[::-1], part[1:], part + ((),)]
+    if len(part) == 2 and all(type(one) is int for one in part):
+        others += [(2 * part[0], 2 * part[1]), (-part[0], -part[1])]
+    return others
+
+
+def replaced(thing, wrongs, path=()):
+    """Pairs (path, thing), in each the part at the path replaced by one of those that wrongs tells for it."""
+    told = [(path, wrong) for wrong in wrongs(thing) if repr(wrong) != repr(thing)]
     if isinstance(thing, tuple):
         for place, part in enumerate(thing):
-            for where, wrong in spoiled(part, path + (place,)):
+            for where, wrong in replaced(part, wrongs, path + (place,)):
                 told.append((where, thing[:place] + (wrong,) + thing[place + 1:]))
     return told
+
+
+def spoiled(thing):
+    """Pairs (path, spoiled thing): in it the part at the path, of whatever depth, is of a wrong kind or length."""
+    return replaced(thing, wrong_for)
+
+
+def changed(thing):
+    """Pairs (path, changed thing): in it the part at the path, of whatever depth, is another one."""
+    return replaced(thing, others_for)

@@ -175,3 +175,46 @@ class PlainRun:
     def counted(self):
         return tuple((name, row["sent"], row["taken"], row["lost"], row["marked"])
                      for name, row in self.totals.items())
+
+
+def walked(plan, many):
+    """The pairs (state, totals) ahead of each round from 0 to many."""
+    other = PlainRun(plan)
+    pairs = [(other.state(), other.counted())]
+    for turn in range(many):
+        other.step()
+        pairs.append((other.state(), other.counted()))
+    return pairs
+
+
+def moved(state, by):
+    """The state with each sender's numbers moved, by being a dict."""
+    ways = tuple([
+        tuple([tuple([(one[0], one[1] + by[one[0]]) + one[2:] for one in letters]) for letters in way[:2]]) + way[2:]
+        for way in state[0]])
+    senders = tuple([
+        one[:4] + (one[4] + by[one[0]], one[5], tuple([number + by[one[0]] for number in one[6]]),
+                   tuple([number + by[one[0]] for number in one[7]])) + one[8:]
+        for one in state[1]])
+    return (ways, senders)
+
+
+def like(state):
+    return moved(state, {sender[0]: -sender[4] for sender in state[1]})
+
+
+def again(plan, most):
+    """The least t that comes again, with its s, looked for among all pairs."""
+    likes = [like(state) for state, counted in walked(plan, most)]
+    for t in range(1, most + 1):
+        for s in range(t):
+            if likes[s] == likes[t]:
+                return (s, t)
+    return None
+
+
+def told(plan, pair):
+    """What point 17 tells of a round, by its pair of state and totals."""
+    state, counted = pair
+    senders = tuple((row[0], kept[2]) + row[1:] for row, kept in zip(counted, state[1]))
+    return (senders, tuple((way[0], len(kept[1])) for way, kept in zip(plan[1], state[0])))

@@ -27,18 +27,6 @@ def events(*words):
     return [(one, name, int(number), way) for one, name, number, way in parts]
 
 
-def moved(state, by):
-    """The state with each sender's numbers moved, by being a dict."""
-    ways = tuple([
-        tuple([tuple([(one[0], one[1] + by[one[0]]) + one[2:] for one in letters]) for letters in way[:2]]) + way[2:]
-        for way in state[0]])
-    senders = tuple([
-        one[:4] + (one[4] + by[one[0]], one[5], tuple([number + by[one[0]] for number in one[6]]),
-                   tuple([number + by[one[0]] for number in one[7]])) + one[8:]
-        for one in state[1]])
-    return (ways, senders)
-
-
 class ByHand(unittest.TestCase):
     def go(self, plan, rows):
         """Plays round by round against rows of (state behind, events); told is the last state."""
@@ -253,16 +241,16 @@ class Drawn(unittest.TestCase):
         for plan in self.plans(17, 60):
             by = {sender[0]: source.choice([-7, 0, 3, -1000, 10 ** 6]) for sender in plan[2]}
             state = begun(plan)
-            other = moved(state, by)
+            other = plain.moved(state, by)
             for count in range(30):
                 state, told = stepped(plan, state)
                 other, also = stepped(plan, other)
-                self.assertEqual(other, moved(state, by))
+                self.assertEqual(other, plain.moved(state, by))
                 self.assertEqual(also, [(word, name, number + by[name], way) for word, name, number, way in told])
                 if source.random() < 0.2:
                     # As a like has it: each next is taken away.
                     by = {sender[0]: -sender[4] for sender in state[1]}
-                    other = moved(state, by)
+                    other = plain.moved(state, by)
 
     def test_nothing_is_changed_and_lists_are_new(self):
         for plan in self.plans(18, 20):
