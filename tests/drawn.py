@@ -121,3 +121,41 @@ def letters(source, names, many):
     """So many letters of these senders, no two of one sender with one number."""
     return tuple([(source.choice(names), number, source.randint(0, 9), source.randint(0, 3), source.randint(0, 1))
                   for number in range(many)])
+
+
+def sender_beside(source, sender):
+    """The sender with another rule, beat, begin or many, or with the same ones."""
+    name, road, beat, begin, many, own = sender
+    turn = source.randint(0, 5)
+    if turn == 0:
+        own = gentler_rule(source, own)
+    if turn == 1:
+        own = rule(source, most=source.choice([2, 6, 20]))
+    if turn == 2:
+        beat = source.randint(1, 8)
+    if turn == 3:
+        begin = source.choice([0, begin + 1, begin + 5, 20])
+    if turn == 4:
+        many = source.choice([None, 3, 20])
+    return (name, road, beat, begin, many, own)
+
+
+def way_beside(source, way):
+    """The way with more or less pace or room, or with the same."""
+    name, pace, room, mark, sort = way
+    turn = source.randint(0, 4)
+    if turn == 0:
+        pace = max(1, pace + source.choice([-1, 1]))
+    if turn == 1:
+        room = max(1, room + source.choice([-2, -1, 1, 2]))
+    return (name, pace, room, mark, sort)
+
+
+def plan_beside(source, plan):
+    """A plan of the same names, not far from the one handed in."""
+    ways, senders = plan[1:]
+    if source.random() < 0.5:
+        ways = tuple([way_beside(source, way) for way in ways])
+    if source.random() < 0.9:
+        senders = tuple([sender_beside(source, sender) for sender in senders])
+    return (plan[0], ways, senders)
