@@ -2,7 +2,7 @@
 
 from swellways.again import told_rounds
 from swellways.againpapers import shows_again
-from swellways.fractions import common_of, is_tuple_of
+from swellways.fractions import common_multiple, is_tuple_of
 from swellways.places import NAME, SENDERS
 
 # Two plans are settled by what they come to in so many rounds.
@@ -32,8 +32,7 @@ def span_of(one_found, other_found):
     """The pair (s, p) of two plans, by the (s, t) of each."""
     one_length = one_found[1] - one_found[0]
     other_length = other_found[1] - other_found[0]
-    both = one_length // common_of(one_length, other_length) * other_length
-    return (max(one_found[0], other_found[0]), both)
+    return (max(one_found[0], other_found[0]), common_multiple(one_length, other_length))
 
 
 def leads_of(one_counts, other_counts):

@@ -38,6 +38,11 @@ def common_of(one, other):
     return divisor
 
 
+def common_multiple(one, other):
+    """The least number from 1 on that both divide, which are above nought."""
+    return one // common_of(one, other) * other
+
+
 def is_fraction(thing):
     """Whether a thing is a fraction."""
     if not is_tuple_of(thing, 2) or not is_whole(thing[0]) or not is_whole(thing[1]):

@@ -159,3 +159,25 @@ def plan_beside(source, plan):
     if source.random() < 0.9:
         senders = tuple([sender_beside(source, sender) for sender in senders])
     return (plan[0], ways, senders)
+
+
+def other_windows(source, plan):
+    """The plan with other windows at the begin, its rules else as they are."""
+    senders = []
+    for sender in plan[2]:
+        own = sender[5]
+        if own[0] != "still":
+            own = (own[0], source.choice([(1, 1), own[-1], at_least_one(source, own[-1])])) + own[2:]
+        senders.append(sender[:5] + (own,))
+    return plan[:2] + (tuple(senders),)
+
+
+def calm_plan(source):
+    """A plan whose ways let out about as much as comes, so that loads lie just below, at and above the pace."""
+    grid, ways, senders = plan(source)
+    eased = []
+    for way in ways:
+        load = sum(Fraction(own[5][-1][0] // own[5][-1][1], own[2]) for own in senders if way[0] in own[1])
+        pace = min(20, max(1, int(load) + source.choice([0, 0, 0, 1, 2])))
+        eased.append((way[0], pace, source.choice([way[2], source.randint(1, 60), 60])) + way[3:])
+    return (grid, tuple(eased), senders)

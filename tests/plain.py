@@ -2,7 +2,7 @@
 changing lists. What the program tells is held against it."""
 
 from fractions import Fraction
-from math import floor
+from math import ceil, floor, lcm
 
 
 def of(pair):
@@ -218,3 +218,133 @@ def told(plan, pair):
     state, counted = pair
     senders = tuple((row[0], kept[2]) + row[1:] for row, kept in zip(counted, state[1]))
     return (senders, tuple((way[0], len(kept[1])) for way, kept in zip(plan[1], state[0])))
+
+
+def limit(sender):
+    """The T of point 19."""
+    return floor(top_of(sender[5]))
+
+
+def is_right_row(plan, place, table):
+    """Point 19 told once more: whether the row at a place of a table of right form is right."""
+    name, most, wait, none = table[place]
+    pace, room, sort = [plan[1][place][part] for part in (1, 2, 4)]
+    waits = {row[0]: row[2] for row in table[:place]}
+    users = [sender for sender in plan[2] if name in sender[1]]
+
+    def a(n):
+        return sum(limit(one) * ceil(Fraction(n + sum(waits[way] for way in one[1][:one[1].index(name)]), one[2]))
+                   for one in users)
+
+    steady = sum(Fraction(limit(one), one[2]) for one in users) <= pace
+    # Twice as far as is enough, so that it is seen that it is enough.
+    most_f = max(a(n) - pace * (n - 1) for n in range(1, 2 * lcm(*[one[2] for one in users]) + 1))
+    held = min(room, most) * (len(users) if sort == "turns" else 1)
+    right_most = most >= room or steady and most >= most_f
+    right_wait = not users or wait >= ceil(Fraction(held, pace)) - 1 or a(wait + 1) <= pace * (wait + 1)
+    return right_most and right_wait and (none is False or steady and room >= most_f)
+
+
+def is_right_table(plan, thing):
+    """Whether a thing is a right table of bounds."""
+    if type(thing) is not tuple or len(thing) != len(plan[1]):
+        return False
+    for row, way in zip(thing, plan[1]):
+        if type(row) is not tuple or [type(part) for part in row] != [str, int, int, bool]:
+            return False
+        if row[0] != way[0] or min(row[1:3]) < 0:
+            return False
+    return all(is_right_row(plan, place, thing) for place in range(len(thing)))
+
+
+def least_bounds(plan):
+    """Point 20 told once more: each row looked for from 0 on."""
+    table = ()
+    for place, way in enumerate(plan[1]):
+        most = wait = 0
+        # Whatever the most, a wait as long as all rounds of a full way by turns is right.
+        while not is_right_row(plan, place, table + ((way[0], most, 8 * 60, False),)):
+            most += 1
+        while not is_right_row(plan, place, table + ((way[0], most, wait, False),)):
+            wait += 1
+        none = is_right_row(plan, place, table + ((way[0], most, wait, True),))
+        table += ((way[0], most, wait, none),)
+    return table
+
+
+def watched(plan, many):
+    """For each way, in so many rounds: the most that stood once all had come in, the longest wait, how many were lost.
+    """
+    other = PlainRun(plan)
+    came, rows = {}, {way[0]: [0, 0, 0, 0] for way in plan[1]}
+    for turn in range(many):
+        for word, name, number, way in other.step():
+            row = rows[way]
+            if word == "in":
+                came[(name, number, way)] = turn
+                row[3] += 1
+                row[0] = max(row[0], row[3])
+            if word in ("out", "taken"):
+                row[1] = max(row[1], turn - came[(name, number, way)])
+                row[3] -= 1
+            if word == "lost":
+                row[2] += 1
+    return [(way[0], *rows[way[0]][:3]) for way in plan[1]]
+
+
+def fit(plan, shares):
+    """Point 21 told once more: whether shares, a dict of Python's fractions, fit."""
+    if any(not 0 <= shares[one[0]] <= Fraction(limit(one), one[2]) for one in plan[2]):
+        return False
+    return all(sum(shares[one[0]] for one in plan[2] if way[0] in one[1]) <= way[1] for way in plan[1])
+
+
+def whys(plan, shares, name):
+    """All texts that may tell why a sender has no more than its share."""
+    sender = [one for one in plan[2] if one[0] == name][0]
+    told = [""] if shares[name] == Fraction(limit(sender), sender[2]) else []
+    for way in plan[1]:
+        others = [shares[one[0]] for one in plan[2] if way[0] in one[1]]
+        if way[0] in sender[1] and sum(others) == way[1] and max(others) == shares[name]:
+            told.append(way[0])
+    return told
+
+
+def even(plan):
+    """The even shares, found the other way round: the one that could have more takes it from one that has more than
+    it, until none can; a dict of Python's fractions, or None where that takes too long."""
+    shares = {one[0]: Fraction(0) for one in plan[2]}
+    for turn in range(400):
+        moved_one = False
+        for sender in sorted(plan[2], key=lambda one: shares[one[0]]):
+            if not whys(plan, shares, sender[0]):
+                raise_one(plan, shares, sender)
+                moved_one = True
+        if not moved_one:
+            return shares
+    return None
+
+
+def raise_one(plan, shares, sender):
+    """Gives a sender as much as it may have when on each way those that have more come down to it."""
+    most = Fraction(limit(sender), sender[2])
+    for way in plan[1]:
+        if way[0] in sender[1]:
+            others = sorted(shares[one[0]] for one in plan[2] if way[0] in one[1] and one[0] != sender[0])
+            most = min(most, level(way[1], others))
+    shares[sender[0]] = most
+    for way in plan[1]:
+        users = [one[0] for one in plan[2] if way[0] in one[1]]
+        if way[0] in sender[1] and sum(shares[name] for name in users) > way[1]:
+            for name in users:
+                shares[name] = min(shares[name], most)
+
+
+def level(pace, others):
+    """The greatest share of one more beside others, rising, of which those above it come down to it."""
+    for count in range(len(others) + 1):
+        # The count least ones stay, all the other ones have alike.
+        alike = (pace - sum(others[:count])) / Fraction(len(others) - count + 1)
+        if count == len(others) or alike <= others[count]:
+            return alike
+    return None
