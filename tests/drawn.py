@@ -181,3 +181,31 @@ def calm_plan(source):
         pace = min(20, max(1, int(load) + source.choice([0, 0, 0, 1, 2])))
         eased.append((way[0], pace, source.choice([way[2], source.randint(1, 60), 60])) + way[3:])
     return (grid, tuple(eased), senders)
+
+
+def deed(source, plan, left):
+    """A deed that a play of this plan, with those that left by name, takes: (word, what is handed in ..)."""
+    grid, ways, senders = plan
+    names = [one[0] for one in senders]
+    there = [name for name in names if name not in left]
+    word = source.choice(["come", "leave", "turn", "turn", "change", "change"])
+    if word == "come" and len(names) < 8:
+        name = source.choice([one for one in NAMES + ("m", "q", "x") if one not in names])
+        return (word, sender(source, name, [one[0] for one in ways]))
+    if word == "leave" and there:
+        return (word, source.choice(there))
+    if word == "turn" and there:
+        return (word, source.choice(there), rule(source, most=source.choice([2, 6, 20])))
+    return ("change", way(source, source.choice(ways)[0]))
+
+
+def plan_of_deed(plan, deed):
+    """The plan behind a deed, with those that left."""
+    grid, ways, senders = plan
+    if deed[0] == "come":
+        senders = tuple(sorted(senders + deed[1:]))
+    if deed[0] == "turn":
+        senders = tuple([one[:5] + deed[2:] if one[0] == deed[1] else one for one in senders])
+    if deed[0] == "change":
+        ways = tuple([deed[1] if one[0] == deed[1][0] else one for one in ways])
+    return (grid, ways, senders)

@@ -258,7 +258,16 @@ def looked(package, texts):
                 faults += [("L16", name, node.lineno, one.name) for one in node.names if one.name not in known]
     if draws_in_a_ring(imports):
         faults.append(("L16", "", 0, "files draw from one another"))
-    return faults
+    return faults + methods_and_values([ast.parse(text) for text in texts.values()])
+
+
+def methods_and_values(trees):
+    """Faults for names that are a method in one class and a value in another."""
+    nodes = [node for tree in trees for node in ast.walk(tree)]
+    methods = [part.name for node in nodes if isinstance(node, ast.ClassDef)
+               for part in node.body if isinstance(part, ast.FunctionDef)]
+    values = [node.attr for node in nodes if isinstance(node, ast.Attribute) and isinstance(node.ctx, ast.Store)]
+    return [("L18", "", 0, name) for name in sorted(set(methods) & set(values))]
 
 
 def top_names(tree):

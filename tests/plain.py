@@ -69,6 +69,27 @@ class PlainRun:
                 share=Fraction(0), next=0, again=[], lost=[], good=0, marked=0, wait=0)
         self.totals = {name: {"sent": 0, "taken": 0, "lost": 0, "marked": 0} for name in self.senders}
 
+    def come(self, sender):
+        name = sender[0]
+        other = PlainRun((self.grid, (), (sender,)))
+        self.senders = dict(sorted([*self.senders.items(), (name, other.senders[name])]))
+        self.totals = dict(sorted([*self.totals.items(), (name, other.totals[name])]))
+
+    def leave(self, name):
+        self.senders[name]["due"] = None
+
+    def turn(self, name, rule):
+        sender = self.senders[name]
+        sender["rule"] = rule
+        window = top_of(rule) if rule[0] == "still" else min(max(sender["window"], 1), top_of(rule))
+        sender["window"] = cut(window, self.grid)
+
+    def change(self, way):
+        for one in self.ways:
+            if one["name"] == way[0]:
+                one.update(zip(("name", "pace", "room", "mark", "sort"), way))
+                one["last"] = "" if way[4] == "line" else one["last"]
+
     def letters(self):
         return [letter for way in self.ways for letter in way["coming"] + way["standing"]]
 

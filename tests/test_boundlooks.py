@@ -189,7 +189,8 @@ class Wrong(unittest.TestCase):
         self.assertEqual(bounds(plan), (("w", 1, 0, True),))
         for row in ((True, 0, True), (1, False, True), (1, True, True), (1, 0, 1), (1, 0, 0), (1, 0, None),
                     (1, 0, "True"), (1, 0, ()), (1.0, 0, True), (1, 0.0, True), ("1", 0, True), (1, "0", True),
-                    (None, 0, True), (1, None, True), ((1,), 0, True), (1, (0, 1), True), (1, 0, (True,)), (1, 0, [True])):
+                    (None, 0, True), (1, None, True), ((1,), 0, True), (1, (0, 1), True), (1, 0, (True,)),
+                    (1, 0, [True])):
             self.refused(plan, (("w",) + row,), row)
         self.assertIs(shows_bounds(plan, (("w", 1, 0, False),)), True)
 

@@ -50,6 +50,11 @@ class Language(unittest.TestCase):
             faults = looked("swellways", {"some.py": text})
             self.assertIn(rule, [fault[0] for fault in faults], text)
 
+    def test_the_looker_finds_methods_that_are_values_elsewhere(self):
+        one = "class A:\n    def f(self):\n        return 1\n"
+        two = "class B:\n    def __init__(self):\n        self.f = 1\n"
+        self.assertIn("L18", [fault[0] for fault in looked("swellways", {"one.py": one, "two.py": two})])
+
     def test_the_looker_finds_rings(self):
         one = "from swellways.two import b\n\n\ndef a():\n    return b()\n"
         two = "from swellways.one import a\n\n\ndef b():\n    return a()\n"
